@@ -1,0 +1,1 @@
+"""Toldlate: jobs that make jobs, and ends that are told late."""
