@@ -1,4 +1,4 @@
-"""What the words of a text, and the values of arguments, can stand for."""
+"""What the words of a text, and the values of arguments, can stand for, and SETs of them."""
 
 LETTERS = "abcdefghijklmnopqrstuvwxyz"
 DIGITS = "0123456789"
@@ -17,3 +17,16 @@ def is_numeral(word):
     if word == "" or not all([digit in DIGITS for digit in word]):
         return False
     return word == "0" or word[0] != "0"
+
+
+def name_set(names):
+    """The SET of these NAMEs, which may come in any order and several times."""
+    found = {name: True for name in names}
+    return tuple(sorted([str(name) for name in found]))
+
+
+def pair_set(pairs):
+    """The SET of these pairs of NAMEs, in any order and several times."""
+    # A blank stands ahead of all letters, so these texts ascend as the pairs do.
+    found = {f"{one} {two}": (one, two) for one, two in pairs}
+    return tuple([found[text] for text in sorted([str(text) for text in found])])
