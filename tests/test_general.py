@@ -6,8 +6,11 @@ import pathlib
 import unittest
 
 from cases import plan_with
-from toldlate import bags, books, hands, plans, rounds, runs
+from toldlate import ahead, bags, books, clocks, hands, plans, readings, rounds, runs
 from toldlate.bags import Bag
+from toldlate.clocks import Clock
+from toldlate.errors import NotEnough
+from toldlate.hands import Hands
 from toldlate.plans import Notice, Outcome, Plan
 from toldlate.runs import Run
 
@@ -24,6 +27,17 @@ FUNCTIONS = {
         "books(start, notices)", "closed(start, notices)", "met(start, notices)",
         "sure(plan, start, notices, *, ahead=())", "twin(plan, start, notices, *, ahead=())",
         "is_twin(plan, start, notices, run, *, ahead=())"),
+    ahead: (
+        "enough(plan, start, ahead)", "avoiding(plan, start, ahead)", "least_ahead(plan, start, candidates)",
+        "cheapest_ahead(plan, start, prices)", "needed_round(plan, start, ahead, member)"),
+    clocks: (
+        "is_good(plan, clock, start)", "breach(plan, clock, start)", "heavy(plan, start)", "heavy_round(plan, start)",
+        "bound(clock, outcome)", "least_clock(plan, start, *, costs=True)", "hands_needed(plan, start)",
+        "any_way(plan, start)", "crowd(plan, start)", "crowd_ends(plan, start)", "longest(plan, start)",
+        "dearest(plan, start)"),
+    readings: (
+        "fall(clock, notice)", "reading(clock, start, notices)", "most_alive(plan, start, notices)",
+        "most_cost(plan, start, notices)"),
 }
 
 # Bag() as a default value is written None where LANGUAGE.md allows plain ones alone.
@@ -36,18 +50,23 @@ METHODS = {
         "__init__(self, rows=())", "outcomes(self, kind)", "put(self, kind, name, outcome)",
         "without(self, kind, name)", "notice(self, kind, name, chosen=None)", "fits(self, notice)"),
     runs.Run: ("__init__(self, start, notices=())", "first(self, many)"),
+    clocks.Clock: ("__init__(self, pairs)", "hands(self, bag)"),
 }
 
 PROPERTIES = {
     bags.Bag: ("pairs", "kinds", "jobs", "text"), hands.Hands: ("numbers", "places", "plain", "text"),
     plans.Outcome: ("makes", "more", "cost"), plans.Plan: ("rows", "kinds"),
-    runs.Run: ("start", "notices", "alive", "peak"),
+    runs.Run: ("start", "notices", "alive", "peak"), clocks.Clock: ("kinds",),
 }
 
 README = pathlib.Path(__file__).resolve().parent.parent / "README.md"
 KINDS = "abcdefgh"
 FULL = Plan([(kind, name, Outcome(Bag([(made, 10 ** 30) for made in KINDS]), KINDS[:3], 10 ** 30))
              for kind in KINDS for name in ("x", "y")])
+# No outcome of this one is heavy: each kind makes great numbers of all that stand behind it.
+GREAT = 10 ** 30
+DEEP = Plan([(kind, name, Outcome(Bag([(made, GREAT) for made in KINDS[at + 1:]]), more, GREAT))
+             for at, kind in enumerate(KINDS) for name, more in (("x", KINDS[at + 1:at + 4]), ("y", ()))])
 
 
 class TestInterface(unittest.TestCase):
@@ -113,6 +132,44 @@ class TestBounds(unittest.TestCase):
         self.assertEqual(run.alive["b"], 90 * (10 ** 30 + 5))
         self.assertEqual(len(runs.late(run, (notice,) * 30)), 60)
 
+    def test_many_candidates_and_prices(self):
+        start = Bag([(kind, GREAT) for kind in KINDS])
+        pairs = tuple((kind, name) for kind, name, _ in FULL.rows)
+        self.assertIs(ahead.enough(FULL, start, pairs), True)
+        for call, given in ((ahead.least_ahead, pairs[:6]),
+                            (ahead.cheapest_ahead, tuple(pair + (GREAT,) for pair in pairs[:6]))):
+            with self.assertRaises(NotEnough):
+                call(FULL, start, given)
+        self.assertEqual(ahead.least_ahead(DEEP, start, pairs[:8]), ((),))
+        found = ahead.needed_round(FULL, start, pairs, ("h", "y"))
+        self.assertIs(rounds.is_growing(FULL, found), True)
+        self.assertEqual({pair for pair in found}, {("h", "y")})
+
+    def test_great_clocks(self):
+        start = Bag([(kind, GREAT) for kind in KINDS])
+        clock = clocks.least_clock(DEEP, start)
+        self.assertIs(clocks.is_good(DEEP, clock, start), True)
+        self.assertEqual(clocks.hands_needed(DEEP, start), 8)
+        self.assertEqual(len(clocks.any_way(DEEP, start)), 7)
+        for call in (clocks.crowd, clocks.crowd_ends, clocks.longest, clocks.dearest):
+            self.assertIsNone(call(DEEP, start))
+        bare = Plan([row for row in DEEP.rows if row[1] == "y"])
+        self.assertEqual(clocks.crowd(bare, Bag.of("1 a")), GREAT * (GREAT + 1) ** 6)
+        self.assertGreater(clocks.dearest(bare, start), clocks.longest(bare, start))
+        wide = Clock([(kind, Hands([10 ** 60] * 12)) for kind in KINDS])
+        self.assertEqual(clocks.bound(wide, DEEP["a", "x"]).numbers, (1,) + (0,) * 12)
+        self.assertEqual(wide.hands(start).numbers, (8 * 10 ** 90,) * 12)
+
+    def test_readings_of_many_notices(self):
+        start = Bag([(kind, GREAT) for kind in KINDS])
+        clock = clocks.least_clock(DEEP, start)
+        notice = DEEP.notice("a", "x", Bag([(kind, 10 ** 40) for kind in "bcd"]))
+        held = (notice,) * 80
+        self.assertLess(readings.reading(clock, start, held), clock.hands(start))
+        self.assertEqual(readings.reading(clock, start, held) + 80 * readings.fall(clock, notice), clock.hands(start))
+        self.assertEqual(readings.most_alive(DEEP, start, held), (None, "reached"))
+        self.assertEqual(readings.most_cost(DEEP, start, held), (None, "reached"))
+
 
 class TestSameResults(unittest.TestCase):
     """The same call returns an equal result, also with lists for tuples."""
@@ -140,6 +197,24 @@ class TestSameResults(unittest.TestCase):
         for result in (rounds.leads(self.PLAN, "a"), rounds.ring(self.PLAN, "a"), rounds.unending(self.PLAN),
                        rounds.reached(self.PLAN, Bag()), runs.entered(Bag(), []), runs.late(run, []),
                        run.notices, books.met(Bag(), []), self.PLAN.outcomes("a"), self.PLAN.kinds):
+            self.assertIsInstance(result, tuple)
+
+    def test_results_of_clocks_and_of_what_is_told_ahead(self):
+        one, plan = Bag.of("1 a"), plan_with(a_more=("-", "b"), a_end="-", b_end="-")
+        clock = clocks.least_clock(plan, one)
+        pairs = [["a", "go"], ["b", "back"], ["b", "on"]]
+        for result in (ahead.least_ahead(self.PLAN, one, pairs), ahead.avoiding(self.PLAN, one, []),
+                       ahead.needed_round(self.PLAN, one, pairs, pairs[2]), clocks.heavy(self.PLAN, one),
+                       clocks.heavy_round(self.PLAN, one), clocks.any_way(plan, one),
+                       clocks.crowd_ends(plan_with(a_two="2 b"), one)):
+            self.assertIsInstance(result, tuple)
+            self.assertNotEqual(result, ())
+            for member in result:
+                self.assertIsInstance(member, tuple)
+        priced = [pair + [1] for pair in pairs]
+        for result in (ahead.cheapest_ahead(self.PLAN, one, priced), ahead.cheapest_ahead(self.PLAN, one, priced)[0],
+                       clock.kinds, clocks.breach(plan, Clock([]), one), readings.most_alive(plan, one, []),
+                       readings.most_cost(plan, one, [])):
             self.assertIsInstance(result, tuple)
 
 

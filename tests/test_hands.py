@@ -6,7 +6,7 @@ import unittest
 from examples import run_examples
 from toldlate import errors, hands
 from toldlate.errors import BadLine, BelowZero
-from toldlate.hands import Hands, hand
+from toldlate.hands import Hands, hand, last_place, number_at
 
 EXAMPLES = """
     >>> day, late = Hands((1, 0, 0)), Hands((7, 900))
@@ -278,6 +278,13 @@ class TestTexts(unittest.TestCase):
         except BadLine as error:
             self.assertEqual(error.number, 0)
             self.assertNotIn(text, told)
+
+    def test_numbers_and_places_from_the_right(self):
+        for own in SOME:
+            numbers = own.numbers[::-1] + (0, 0)
+            self.assertEqual([number_at(own, place) for place in range(len(numbers))], list(numbers))
+            found = [place for place, number in enumerate(numbers) if number != 0]
+            self.assertEqual(last_place(own), found[0] if found else 0)
 
     def test_a_wrong_text_is_no_other_error(self):
         with self.assertRaises(errors.LateError) as caught:

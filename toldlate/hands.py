@@ -111,6 +111,21 @@ def hand(place, count=1):
     return Hands([count] + [0] * place)
 
 
+def number_at(hands, place):
+    """The number of some Hands at a place, 0 ahead of the first one."""
+    if place >= hands.places:
+        return 0
+    return hands.numbers[hands.places - 1 - place]
+
+
+def last_place(hands):
+    """The place of the last number that is not 0, counted from the right."""
+    place = 0
+    while place < hands.places and number_at(hands, place) == 0:
+        place = place + 1
+    return place
+
+
 def _without_front_zeros(numbers):
     """The tuple of the numbers from the first one on that is not 0."""
     row = tuple(numbers)

@@ -3,7 +3,6 @@
 from toldlate.checks import check_kind, check_pairs, check_start
 from toldlate.plans import kinds_made
 from toldlate.webs import Web
-from toldlate.words import name_set
 
 
 def leads(plan, kind):
@@ -21,9 +20,7 @@ def ring(plan, kind):
 def reached(plan, start):
     """The SET of the kinds of the start and of all that these lead to."""
     check_start(plan, start)
-    web = Web(plan)
-    behind = [other for kind in start.kinds for other in web.leads(kind)]
-    return name_set(list(start.kinds) + behind)
+    return Web(plan).behind(start.kinds)
 
 
 def unending(plan):

@@ -26,6 +26,20 @@ class Web:
         """The SET of the kinds of the ring of a kind."""
         return self._rings[kind]
 
+    def behind(self, kinds):
+        """The SET of these kinds and of all that they lead to."""
+        found = {kind: True for kind in kinds}
+        for kind in kinds:
+            found.update({other: True for other in self._leads[kind]})
+        return name_set(found)
+
+    def rings(self):
+        """All rings, each behind those that it leads to."""
+        # Who leads to another ring leads to all that this one leads to, and to this one.
+        sizes = {kind: len(self.behind([kind])) for kind in self._leads}
+        return [self._rings[kind] for size in range(len(sizes) + 1) for kind in sizes
+                if sizes[kind] == size and self._rings[kind][0] == kind]
+
     def rows_of(self, kind):
         """The rows of the outcomes of a kind."""
         return [row for row in self._rows if row[0] == kind]
@@ -34,11 +48,19 @@ class Web:
         """The kinds of its own ring that an outcome of a kind can make."""
         return [made for made in kinds_made(outcome) if made in self._rings[kind]]
 
+    def stays(self, kind, outcome):
+        """Whether an outcome of a kind makes a kind of its own ring."""
+        return len(self.staying_kinds(kind, outcome)) > 0
+
     def is_side(self, kind, outcome):
         """Whether an outcome of a kind stays and can make two jobs or more."""
-        if len(self.staying_kinds(kind, outcome)) == 0:
+        if not self.stays(kind, outcome):
             return False
         return outcome.makes.jobs > 1 or len(outcome.more) > 0
+
+    def is_heavy(self, kind, outcome):
+        """Whether an outcome of a kind is a side, or stays at a cost."""
+        return self.is_side(kind, outcome) or (outcome.cost > 0 and self.stays(kind, outcome))
 
     def sides(self):
         """The rows of all sides, ascending."""
