@@ -340,8 +340,10 @@ class TestRefusedArguments(Case):
         for value in NO_NAMES + ("z",):
             for pair in ((value, "go"), ("a", value), ("b", value)):
                 for pairs in ((pair,), [["a", "go"], list(pair), ["z", "z"]]):
-                    for call, arguments in self.calls(Bag.of("1 b"), pairs):
-                        self.refused(NoOutcome, pair, call, *arguments)
+                    # From an "a" a kind that grows is reached; an empty start reaches nothing.
+                    for start in (Bag.of("1 a"), Bag()):
+                        for call, arguments in self.calls(start, pairs):
+                            self.refused(NoOutcome, pair, call, *arguments)
 
     def test_a_member_that_is_not_in_ahead(self):
         two = ("b", "two")

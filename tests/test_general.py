@@ -1,16 +1,21 @@
-"""Points [2], [3] and [16] of DOC.md, as far as they hold of all that is built."""
+"""Points [2], [3] and [16] of DOC.md, which hold of the whole program."""
 
 import doctest
 import inspect
 import pathlib
+import random
 import unittest
+from collections import Counter
 
 from cases import plan_with
-from toldlate import ahead, bags, books, clocks, hands, plans, readings, rounds, runs
+from searches import layered_plan, random_run, random_start
+from toldlate import (ahead, bags, books, changes, clocks, desk, duels, hands, plans, readings, rounds, runs,
+                      texts)
 from toldlate.bags import Bag
 from toldlate.clocks import Clock
+from toldlate.duels import Duel
 from toldlate.errors import NotEnough
-from toldlate.hands import Hands
+from toldlate.hands import Hands, hand
 from toldlate.plans import Notice, Outcome, Plan
 from toldlate.runs import Run
 
@@ -38,6 +43,14 @@ FUNCTIONS = {
     readings: (
         "fall(clock, notice)", "reading(clock, start, notices)", "most_alive(plan, start, notices)",
         "most_cost(plan, start, notices)"),
+    duels: (),
+    changes: (
+        "spared(plan, clock, start)", "slack(plan, start)", "alike(plan, other, start)", "compared(plan, bag, other)",
+        "put_word(plan, start, kind, name, outcome)", "out_word(plan, start, kind, name)"),
+    desk: (),
+    texts: (
+        "outcome_text(outcome)", "plan_text(plan)", "notices_text(notices)", "outcome_of(text)", "plan_of(text)",
+        "notices_of(text)"),
 }
 
 # Bag() as a default value is written None where LANGUAGE.md allows plain ones alone.
@@ -51,12 +64,29 @@ METHODS = {
         "without(self, kind, name)", "notice(self, kind, name, chosen=None)", "fits(self, notice)"),
     runs.Run: ("__init__(self, start, notices=())", "first(self, many)"),
     clocks.Clock: ("__init__(self, pairs)", "hands(self, bag)"),
+    duels.Duel: (
+        "__init__(self, plan, start, first)", "next_end(self)", "answer(self, hands)", "play(self, keeper, most)"),
+    desk.Desk: (
+        "__init__(self, plan, start, ahead=())", "hear(self, notice)", "attempt(self, notices)",
+        "put(self, kind, name, outcome)", "without(self, kind, name)", "back(self)", "books(self)", "closed(self)",
+        "sure(self)", "twin_run(self)", "reading(self)", "shown(self)", "most_alive(self)", "copied(self)"),
+}
+
+OPERATORS = {
+    bags.Bag: ("__getitem__", "__contains__", "__len__", "__add__", "__sub__", "__mul__", "__rmul__", "__eq__"),
+    hands.Hands: ("__lt__", "__le__", "__gt__", "__ge__", "__eq__", "__add__", "__sub__", "__mul__", "__rmul__"),
+    plans.Outcome: ("__eq__",), plans.Notice: ("__eq__",),
+    plans.Plan: ("__getitem__", "__contains__", "__len__", "__or__", "__eq__"),
+    runs.Run: ("__len__", "__add__", "__eq__"), clocks.Clock: ("__getitem__", "__contains__", "__eq__"),
+    desk.Desk: ("__len__", "__iadd__"),
 }
 
 PROPERTIES = {
     bags.Bag: ("pairs", "kinds", "jobs", "text"), hands.Hands: ("numbers", "places", "plain", "text"),
     plans.Outcome: ("makes", "more", "cost"), plans.Plan: ("rows", "kinds"),
     runs.Run: ("start", "notices", "alive", "peak"), clocks.Clock: ("kinds",),
+    duels.Duel: ("plan", "start", "now", "alive", "ends", "price", "beaten"),
+    desk.Desk: ("plan", "start", "ahead", "heard"),
 }
 
 README = pathlib.Path(__file__).resolve().parent.parent / "README.md"
@@ -84,6 +114,17 @@ class TestInterface(unittest.TestCase):
                 name = head.partition("(")[0]
                 self.assertIn(name, vars(owner))
                 self.assertEqual(name + str(inspect.signature(getattr(owner, name))), head)
+
+    def test_classes_stand_in_their_files(self):
+        for module, owner in ((bags, "Bag"), (hands, "Hands"), (plans, "Outcome"), (plans, "Notice"), (plans, "Plan"),
+                              (runs, "Run"), (clocks, "Clock"), (duels, "Duel"), (desk, "Desk")):
+            self.assertEqual(getattr(module, owner).__module__, module.__name__)
+            self.assertEqual(getattr(module, owner).__bases__, (object,))
+
+    def test_operators_are_defined_in_the_class_itself(self):
+        for owner, names in OPERATORS.items():
+            for name in names:
+                self.assertIn(name, vars(owner))
 
     def test_properties_have_no_setters(self):
         for owner, names in PROPERTIES.items():
@@ -170,6 +211,82 @@ class TestBounds(unittest.TestCase):
         self.assertEqual(readings.most_alive(DEEP, start, held), (None, "reached"))
         self.assertEqual(readings.most_cost(DEEP, start, held), (None, "reached"))
 
+    def test_duels_of_great_plans(self):
+        ending = Plan(list(DEEP.rows) + [(kind, "z", Outcome()) for kind in KINDS])
+        start = Bag([(kind, GREAT) for kind in KINDS])
+        duel = Duel(ending, start, Hands([GREAT - 1] + [10 ** 60] * 7))
+        self.assertEqual(duel.next_end().kind, "h")
+        self.assertEqual(duel.play(lambda end, price, now: now - hand(0, price), 400), 400)
+        self.assertEqual(duel.alive["h"], GREAT - 400)
+
+    def test_changes_of_great_plans(self):
+        start = Bag([(kind, GREAT) for kind in KINDS])
+        clock = clocks.least_clock(DEEP, start)
+        self.assertEqual(changes.spared(DEEP, clock, start), ())
+        self.assertEqual(changes.slack(DEEP, start), tuple((kind, "y") for kind in KINDS[:-1]))
+        self.assertIs(changes.alike(DEEP, DEEP, start), True)
+        self.assertEqual(changes.compared(DEEP, start, start * GREAT), "less")
+        self.assertEqual(changes.put_word(DEEP, start, "h", "z", Outcome(cost=2 * GREAT)), "greater")
+        self.assertEqual(changes.out_word(DEEP, start, "a", "x"), "less")
+
+    def test_a_desk_with_many_notices_and_deeds(self):
+        own = desk.Desk(DEEP, Bag([(kind, GREAT) for kind in KINDS]), [[kind, "x"] for kind in KINDS])
+        for many in range(70):
+            own += DEEP.notice("a", "y")
+        self.assertEqual((len(own), own.closed(), own.sure()), (70, False, False))
+        self.assertLess(own.shown(), clocks.least_clock(DEEP, own.start).hands(own.start))
+        self.assertEqual(len(own.books()), 8)
+
+    def test_great_texts(self):
+        self.assertEqual(texts.plan_of(texts.plan_text(DEEP)), DEEP)
+        held = (FULL.notice("a", "x"),) * 70
+        self.assertEqual(texts.notices_of(texts.notices_text(held)), held)
+
+
+class TestGuarantees(unittest.TestCase):
+    """(a) to (f) of [1], one by one, on plans by chance: what is said of a run is so."""
+
+    def test_all_of_them(self):
+        rng, said = random.Random(111), Counter()
+        for _ in range(200):
+            plan = layered_plan(rng, 4)
+            if rng.random() < 0.4:
+                plan = plan.put(rng.choice(plan.kinds), "grow", Outcome(Bag([(kind, 1) for kind in plan.kinds])))
+            start = random_start(rng, plan, 2)
+            run = Run(start, random_run(rng, plan, start, 10))
+            mixed = list(run.notices)
+            rng.shuffle(mixed)
+            self.assertEqual(runs.order_of(start, mixed).alive, run.alive)
+            self.check_books(plan, start, run, mixed, said)
+            self.check_clock(plan, start, run, mixed, said)
+        self.assertGreater(min(said[word] for word in ("sure", "twin", "heavy", "duel")), 10, said)
+
+    def check_books(self, plan, start, run, held, said):
+        if not books.closed(start, held):
+            return
+        if books.sure(plan, start, held):
+            said["sure"] += 1
+            self.assertEqual(run.alive, Bag())
+        else:
+            said["twin"] += 1
+            self.assertIs(books.is_twin(plan, start, held, books.twin(plan, start, held)), True)
+            self.assertIs(ahead.enough(plan, start, ()), False)
+
+    def check_clock(self, plan, start, run, held, said):
+        if clocks.heavy(plan, start):
+            said["heavy"] += 1
+            self.assertIs(rounds.is_round(plan, clocks.heavy_round(plan, start)), True)
+            return
+        clock = clocks.least_clock(plan, start)
+        shown = [readings.reading(clock, start, held[:many]) for many in range(len(held) + 1)]
+        self.assertTrue(all(after <= before for before, after in zip(shown, shown[1:])))
+        self.assertEqual(shown[-1] == Hands(), run.alive == Bag())
+        if start.jobs:
+            said["duel"] += 1
+            own = Duel(plan, start, Hands())
+            own.play(lambda end, price, now: now, 99)
+            self.assertIs(own.beaten, True)
+
 
 class TestSameResults(unittest.TestCase):
     """The same call returns an equal result, also with lists for tuples."""
@@ -216,6 +333,18 @@ class TestSameResults(unittest.TestCase):
                        clock.kinds, clocks.breach(plan, Clock([]), one), readings.most_alive(plan, one, []),
                        readings.most_cost(plan, one, [])):
             self.assertIsInstance(result, tuple)
+
+    def test_results_of_duels_changes_desks_and_texts(self):
+        plan, one = plan_with(a_go="2 b", a_on="1 b", b_end="-"), Bag.of("1 a")
+        own = desk.Desk(plan, one, [["a", "go"]])
+        own.attempt([plan.notice("a", "on")])
+        duel = Duel(plan, one, hand(0))
+        duel.answer(hand(0))
+        for result in (own.heard, own.ahead, own.books(), own.most_alive(), duel.ends, changes.slack(plan, one),
+                       changes.spared(plan, clocks.least_clock(plan, one), one), texts.notices_of("a on: 1 b")):
+            self.assertIsInstance(result, tuple)
+            self.assertNotEqual(result, ())
+        self.assertEqual(own.ahead, (("a", "go"),))
 
 
 if __name__ == "__main__":

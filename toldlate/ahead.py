@@ -30,7 +30,7 @@ def least_ahead(plan, start, candidates):
     if len(_growing_kinds(plan, kinds, pairs)) > 0:
         raise NotEnough()
     found = []
-    for chosen in _smaller_first(pairs):
+    for chosen in _all_sets(pairs):
         # What contains an enough SET is enough as well, but it is not a least one.
         if not any([_contains(chosen, least) for least in found]):
             if len(_growing_kinds(plan, kinds, chosen)) == 0:
@@ -71,12 +71,12 @@ def _growing_kinds(plan, kinds, ahead):
     return [row[0] for row in Web(plan, ahead).sides() if row[0] in kinds]
 
 
-def _smaller_first(pairs):
-    """All SETs of members of this SET, those with fewer members ahead."""
+def _all_sets(pairs):
+    """All SETs of members of this SET, each behind those that it contains."""
     found = [()]
     for pair in pairs:
         found = found + [chosen + (pair,) for chosen in found]
-    return [chosen for size in range(len(pairs) + 1) for chosen in found if len(chosen) == size]
+    return found
 
 
 def _contains(pairs, others):

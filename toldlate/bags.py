@@ -1,7 +1,7 @@
 """Bags: how many jobs there are of each kind."""
 
 from toldlate.errors import BadLine, BelowZero, NoName, Short
-from toldlate.words import is_name, is_numeral
+from toldlate.words import is_ascending, is_name, is_numeral
 
 
 class Bag:
@@ -49,7 +49,7 @@ class Bag:
             return Bag()
         words = text.split(" ")
         numbers, kinds = words[0::2], words[1::2]
-        if len(numbers) != len(kinds) or not _is_ascending(kinds):
+        if len(numbers) != len(kinds) or not is_ascending(kinds):
             raise BadLine(0)
         if not all([is_numeral(word) and word != "0" for word in numbers]):
             raise BadLine(0)
@@ -97,10 +97,3 @@ class Bag:
 
     def __rmul__(self, other):
         return self * other
-
-
-def _is_ascending(kinds):
-    """Whether these words are kinds that ascend."""
-    if not all([is_name(kind) for kind in kinds]):
-        return False
-    return all([one < other for one, other in zip(kinds, kinds[1:])])

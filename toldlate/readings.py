@@ -46,7 +46,9 @@ def _most_from_now(table, start, notices, endless):
     Of the endless kinds, which were met, late rounds may have left any number.
     """
     if is_run(start, notices):
-        return (None if len(endless) > 0 else total(table, left(start, notices))), "reached"
+        if len(endless) > 0:
+            return None, "reached"
+        return total(table, left(start, notices)), "reached"
     come, ended = total(table, _come(start, notices)), total(table, _ended(notices))
     if come is None or ended is None:
         return None, "bound"

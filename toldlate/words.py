@@ -19,6 +19,13 @@ def is_numeral(word):
     return word == "0" or word[0] != "0"
 
 
+def is_ascending(words):
+    """Whether these words are NAMEs that ascend."""
+    if not all([is_name(word) for word in words]):
+        return False
+    return all([one < other for one, other in zip(words, words[1:])])
+
+
 def name_set(names):
     """The SET of these NAMEs, which may come in any order and several times."""
     found = {name: True for name in names}
